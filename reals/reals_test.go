@@ -360,12 +360,14 @@ func TestAddAgainstWholeNumbers(t *testing.T) {
 	check(near(400))
 }
 
-// TestAddOfProduct: the sum is of reals, so that a product that is handed in has been rounded already.
+// TestAddOfProduct: the sum is of reals, so that a product that is handed in has been rounded already, even where the machine can multiply and add at once.
 func TestAddOfProduct(t *testing.T) {
-	a := ofBits(one + 1)
-	product := a * a
-	if x := reals.Add(a*a, -product); !is(x, plusNought) {
-		t.Errorf("a product less itself: %X", math.Float64bits(x))
+	for _, n := range near(100) {
+		a := ofBits(n)
+		product := float64(a * a)
+		if x := reals.Add(a*a, -product); !is(x, plusNought) {
+			t.Errorf("the product %X by itself, less itself: %X", n, math.Float64bits(x))
+		}
 	}
 }
 
