@@ -166,10 +166,15 @@ func TestWhatIsHandedInStaysAndIsntKept(t *testing.T) {
 	copy(members, []int{0, 1, 2, 3})
 	l, _ := ledger.New(api.Conf{Members: members})
 	p := &pair{t: t, l: l, m: modelOf(firstMembers(4))}
+	spoil(members)
+	expectStands(t, p.l, p.m)
+	copy(members, []int{0, 1, 2, 3})
+	l, _ = ledger.New(api.Conf{Members: members})
+	p = &pair{t: t, l: l, m: modelOf(firstMembers(4))}
 	p.do(join(1, 1, 4))
 	p.do(join(1, 2, 5))
 	p.do(leave(1, 3, 0))
-	if !slices.Equal(members, []int{0, 1, 2, 3}) || !slices.Equal(members[:6], []int{0, 1, 2, 3, 0, 0}) {
+	if !slices.Equal(members, []int{0, 1, 2, 3}) || !slices.Equal(members[:6], []int{0, 1, 2, 3, -7, 0}) {
 		t.Error("changed", members[:6])
 	}
 	spoil(members)
