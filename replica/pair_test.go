@@ -6,10 +6,9 @@ import (
 	"slices"
 	"strings"
 	"testing"
+	"unsafe"
 
 	"witan/api"
-	"witan/deeds"
-	"witan/ledger"
 	"witan/replica"
 	"witan/wire"
 )
@@ -19,10 +18,24 @@ type pair struct {
 	t     *testing.T
 	r     *replica.Replica
 	m     *model
-	row   []string          // what was called, to be told where something is wrong
+	row   []call            // what was called, to be told where something is wrong
 	bound int               // how many messages it said at most
-	seen  map[string]string // the request of each text that it signed to have prepared, by epoch, view and slot
-	signs int               // how many texts it signed that could be seen
+	seen  map[string]string // the request that it signed to have prepared, by epoch, view and slot
+	signs map[string]int    // the texts that it signed
+	was   standing
+}
+
+// call is a message that was handed in, or a tick, if its kind is 0.
+type call struct {
+	now, from int
+	msg       api.Msg
+}
+
+func (c call) String() string {
+	if c.msg.Kind == 0 && c.from < 0 {
+		return fmt.Sprint("tick ", c.now)
+	}
+	return fmt.Sprint("handle ", c.now, " ", c.from, " ", tellMsg(c.msg))
 }
 
 func pairOf(t *testing.T, id int, members ...int) *pair {
@@ -33,7 +46,7 @@ func pairOf(t *testing.T, id int, members ...int) *pair {
 		t.Fatalf("New(%d, %v): %d", id, members, e)
 	}
 	spoilInts(first.Members)
-	p := &pair{t: t, r: r, m: modelOf(id, conf(0, members...)), seen: map[string]string{}}
+	p := &pair{t: t, r: r, m: modelOf(id, conf(0, members...)), seen: map[string]string{}, signs: map[string]int{}}
 	p.expectAsked()
 	return p
 }
@@ -41,22 +54,21 @@ func pairOf(t *testing.T, id int, members ...int) *pair {
 // handle hands a message to both, and answers what they answered.
 func (p *pair) handle(now, from int, x api.Msg) []api.Packet {
 	p.t.Helper()
-	p.row = append(p.row, fmt.Sprint("handle ", now, " ", from, " ", tellMsg(x)))
+	p.row = append(p.row, call{now, from, clone(x)})
 	want := p.m.handle(now, from, clone(x))
-	handed := roomy(x)
-	before := tellMsg(handed)
+	handed, spoil := lend(x)
 	got := p.r.Handle(now, from, handed)
-	if after := tellMsg(handed); after != before {
-		p.fail("what was handed in was %s and is %s", before, after)
+	if !isEqual(handed, x) {
+		p.fail("what was handed in was %s and is %s", tellMsg(x), tellMsg(handed))
 	}
-	spoilMsg(handed)
+	spoil()
 	return p.compare(got, want)
 }
 
 // tick lets time go on for both.
 func (p *pair) tick(now int) []api.Packet {
 	p.t.Helper()
-	p.row = append(p.row, fmt.Sprint("tick ", now))
+	p.row = append(p.row, call{now: now, from: -1})
 	want := p.m.tick(now)
 	got := p.r.Tick(now)
 	if now%again == 0 && !p.r.Halted() {
@@ -67,11 +79,11 @@ func (p *pair) tick(now int) []api.Packet {
 
 func (p *pair) fail(format string, args ...any) {
 	p.t.Helper()
-	row := p.row
-	if len(row) > 40 {
-		row = row[len(row)-40:]
+	var row strings.Builder
+	for _, c := range p.row[max(0, len(p.row)-40):] {
+		row.WriteString(c.String() + "\n")
 	}
-	p.t.Fatalf("the replica %d behind:\n%s\n%s", p.m.id, strings.Join(row, "\n"), fmt.Sprintf(format, args...))
+	p.t.Fatalf("the replica %d behind:\n%s%s", p.m.id, row.String(), fmt.Sprintf(format, args...))
 }
 
 // compare holds the packets against each other one by one. Each is spoilt ahead of the next one, so that none may share memory with another one.
@@ -81,8 +93,8 @@ func (p *pair) compare(got, want []api.Packet) []api.Packet {
 		p.fail("answered %s\nasked %s", tellAll(got), tellAll(want))
 	}
 	for i := range got {
-		if g, w := tellPacket(got[i]), tellPacket(want[i]); g != w {
-			p.fail("the packet %d\nis    %s\nasked %s", i, g, w)
+		if got[i].From != want[i].From || got[i].To != want[i].To || !isEqual(got[i].Msg, want[i].Msg) {
+			p.fail("the packet %d\nis    %s\nasked %s", i, tellPacket(got[i]), tellPacket(want[i]))
 		}
 		if _, e := wire.Bytes(got[i].Msg); e != api.OK {
 			p.fail("the packet %d doesn't fit: %d", i, e)
@@ -95,50 +107,84 @@ func (p *pair) compare(got, want []api.Packet) []api.Packet {
 	return want
 }
 
-// expectAsked asks all that can be asked.
+// expectAsked asks all that can be asked, twice: the second time what was answered the first time is spoilt.
 func (p *pair) expectAsked() {
 	p.t.Helper()
-	ask := func() []string {
+	want := standing{
+		p.m.id, p.m.epoch(), p.m.view, p.m.active, p.m.ledger.Done(), p.m.left, p.m.halted, len(p.m.words), p.m.ledger.Text(),
+	}
+	for range 2 {
+		got := standing{
+			p.r.ID(), p.r.Epoch(), p.r.View(), p.r.Active(), p.r.Done(), p.r.Left(), p.r.Halted(), p.r.Size(), p.r.State(),
+		}
+		if got != want {
+			p.fail("is    %+v\nasked %+v", got, want)
+		}
+		p.expectGrown(got)
 		chain, history := p.r.Chain(), p.r.History()
-		s := fmt.Sprintf("id %d epoch %d view %d active %t done %d left %d halted %t size %d\nstate %x\nchain %s\nhistory %s",
-			p.r.ID(), p.r.Epoch(), p.r.View(), p.r.Active(), p.r.Done(), p.r.Left(), p.r.Halted(), p.r.Size(),
-			p.r.State(), tellLinks(chain), tellEntries(history))
+		if !slices.EqualFunc(chain, p.m.chain, isEqualLink) {
+			p.fail("the chain\nis    %s\nasked %s", tellLinks(chain), tellLinks(p.m.chain))
+		}
+		if !slices.EqualFunc(history, p.m.history, isEqualEntry) {
+			p.fail("the history\nis    %s\nasked %s", tellEntries(history), tellEntries(p.m.history))
+		}
 		spoilLinks(chain)
 		for i := range history {
 			history[i] = api.Entry{Slot: -1}
 		}
-		return strings.Split(s, "\n")
 	}
-	size := len(p.m.words)
-	s := fmt.Sprintf("id %d epoch %d view %d active %t done %d left %d halted %t size %d\nstate %x\nchain %s\nhistory %s",
-		p.m.id, p.m.epoch(), p.m.view, p.m.active, p.m.ledger.Done(), p.m.left, p.m.halted, size,
-		p.m.ledger.Text(), tellLinks(p.m.chain), tellEntries(p.m.history))
-	want := strings.Split(s, "\n")
-	for range 2 { // the second time what was answered the first time is spoilt
-		got := ask()
-		for i := range want {
-			if got[i] != want[i] {
-				p.fail("is    %s\nasked %s", got[i], want[i])
-			}
-		}
+	if n := len(p.m.members()); want.size > interval*(1+2*n) {
+		p.fail("the log has %d of %d members", want.size, n)
 	}
-	if n := len(p.m.members()); size > interval*(1+2*n) {
-		p.fail("the log has %d of %d members", size, n)
+	if len(p.m.waits) > clients || len(p.m.changes) > len(p.m.members()) {
+		p.fail("%d wait, %d changes came", len(p.m.waits), len(p.m.changes))
 	}
 }
 
-// noteSigned keeps what it signed to have prepared: one request in one epoch, view and slot.
+// standing is all that can be asked but lists.
+type standing struct {
+	id, epoch, view int
+	active          bool
+	done, left      int
+	halted          bool
+	size            int
+	state           string
+}
+
+// noteSigned keeps what it signed: at most one request in one epoch, view and slot, and no more texts than leaves that were used.
 func (p *pair) noteSigned(x api.Msg) {
 	p.t.Helper()
-	if x.Kind != api.MPrepare {
-		return
+	switch x.Kind {
+	case api.MPrepare:
+		place := fmt.Sprint(x.Epoch, " ", x.View, " ", x.Slot)
+		text := textOf(x.Req)
+		if was, ok := p.seen[place]; ok && was != text {
+			p.fail("prepared two requests in %s: %x and %x", place, was, text)
+		}
+		p.seen[place] = text
+		p.signs[x.Sigs[0].Text]++
+	case api.MVote:
+		p.signs[x.Sigs[0].Text]++
+		p.signs[x.Sigs[1].Text]++
+	case api.MChange:
+		p.signs[x.Changes[0].Sig.Text]++
 	}
-	place := fmt.Sprint(x.Epoch, " ", x.View, " ", x.Slot)
-	text := textOf(x.Req)
-	if was, ok := p.seen[place]; ok && was != text {
-		p.fail("prepared two requests in %s: %x and %x", place, was, text)
+	if len(p.signs) > leaves-p.r.Left() {
+		p.fail("signed %d texts, and has %d leaves left", len(p.signs), p.r.Left())
 	}
-	p.seen[place] = text
+}
+
+// expectGrown holds how it stands against how it stood: no epoch falls, no view within an epoch, no leaf comes again, and who is halted stays as it is.
+func (p *pair) expectGrown(now standing) {
+	p.t.Helper()
+	was := p.was
+	p.was = now
+	if now.epoch < was.epoch || now.epoch == was.epoch && now.view < was.view || now.done < was.done || now.left < 0 || now.left > leaves {
+		p.fail("was %+v\nis  %+v", was, now)
+	}
+	if was.state != "" && now.left > was.left || was.halted && now != was {
+		p.fail("was %+v\nis  %+v", was, now)
+	}
 }
 
 // expectBound holds what it says, as it tells it again at this tick, to the bound: three messages a slot, and three more.
@@ -195,10 +241,36 @@ func (p *pair) stands(epoch, view int, active bool, done, left int) {
 	}
 }
 
-// twin answers another pair that was told nothing yet, of the same number and first configuration.
-func (p *pair) full() *ledger.Ledger { return p.m.ledger.Copy() }
+// Comparing: reals by their bits, and lists that are nil as those that are empty.
 
-// Telling: each thing as a text in which reals stand as their bits, and lists that are nil as those that are empty.
+func isEqualReq(a, b api.Request) bool {
+	same := math.Float64bits(a.Op.Real) == math.Float64bits(b.Op.Real)
+	a.Op.Real, b.Op.Real = 0, 0
+	return same && a == b
+}
+
+func isEqualEntry(a, b api.Entry) bool { return a.Slot == b.Slot && isEqualReq(a.Req, b.Req) }
+
+func isEqualCert(a, b api.Cert) bool {
+	return a.View == b.View && a.Slot == b.Slot && isEqualReq(a.Req, b.Req) && slices.Equal(a.Sigs, b.Sigs)
+}
+
+func isEqualChange(a, b api.Change) bool {
+	return a.From == b.From && a.View == b.View && a.Sig == b.Sig && slices.EqualFunc(a.Certs, b.Certs, isEqualCert)
+}
+
+func isEqualLink(a, b api.Link) bool {
+	return a.Conf.Epoch == b.Conf.Epoch && slices.Equal(a.Conf.Members, b.Conf.Members) && slices.Equal(a.Sigs, b.Sigs)
+}
+
+func isEqual(a, b api.Msg) bool {
+	return a.Kind == b.Kind && a.Epoch == b.Epoch && a.View == b.View && a.Slot == b.Slot && isEqualReq(a.Req, b.Req) &&
+		a.Result.Code == b.Result.Code && math.Float64bits(a.Result.Real) == math.Float64bits(b.Result.Real) &&
+		a.Text == b.Text && slices.Equal(a.Next, b.Next) && slices.Equal(a.Sigs, b.Sigs) &&
+		slices.EqualFunc(a.Changes, b.Changes, isEqualChange) && slices.EqualFunc(a.Links, b.Links, isEqualLink)
+}
+
+// Telling: each thing as a text in which reals stand as their bits.
 
 func tellReq(q api.Request) string {
 	return fmt.Sprintf("(%d %d %d %q %016x %d)", q.Client, q.Stamp, q.Op.Kind, q.Op.Key, math.Float64bits(q.Op.Real), q.Op.ID)
@@ -269,16 +341,59 @@ func withRoom[T any](list []T) []T {
 	return append(make([]T, 0, len(list)+3), list...)
 }
 
-func roomy(m api.Msg) api.Msg {
+// loan is memory that is a caller's, and what writes over it.
+type loan []func()
+
+// text answers the text in bytes of the caller's.
+func (l *loan) text(s *string) {
+	bytes := []byte(*s)
+	if len(bytes) == 0 {
+		return
+	}
+	*s = unsafe.String(&bytes[0], len(bytes))
+	*l = append(*l, func() {
+		for i := range bytes {
+			bytes[i] = 'x'
+		}
+	})
+}
+
+func (l *loan) sigs(list *[]api.Sig) {
+	*list = withRoom(*list)
+	for i := range *list {
+		l.text(&(*list)[i].Text)
+	}
+}
+
+// lend answers a copy of the message all of which, lists and texts, is the caller's, and what spoils it.
+func lend(m api.Msg) (api.Msg, func()) {
+	var l loan
 	m = clone(m)
+	l.text(&m.Req.Op.Key)
+	l.text(&m.Text)
 	m.Next = withRoom(m.Next)
-	m.Sigs = withRoom(m.Sigs)
+	l.sigs(&m.Sigs)
 	m.Changes = withRoom(m.Changes)
 	for i := range m.Changes {
-		m.Changes[i].Certs = withRoom(m.Changes[i].Certs)
+		x := &m.Changes[i]
+		l.text(&x.Sig.Text)
+		x.Certs = withRoom(x.Certs)
+		for j := range x.Certs {
+			l.text(&x.Certs[j].Req.Op.Key)
+			l.sigs(&x.Certs[j].Sigs)
+		}
 	}
 	m.Links = withRoom(m.Links)
-	return m
+	for i := range m.Links {
+		m.Links[i].Conf.Members = withRoom(m.Links[i].Conf.Members)
+		l.sigs(&m.Links[i].Sigs)
+	}
+	return m, func() {
+		for _, spoil := range l {
+			spoil()
+		}
+		spoilMsg(m)
+	}
 }
 
 func spoilInts(list []int) {
@@ -319,6 +434,3 @@ func spoilMsg(m api.Msg) {
 func others(members []int, id int) []int {
 	return slices.DeleteFunc(slices.Clone(members), func(n int) bool { return n == id })
 }
-
-// isSame tells if two requests have one text.
-func isSame(a, b api.Request) bool { return deeds.Same(a, b) }

@@ -1,6 +1,7 @@
 package replica_test
 
 import (
+	"math"
 	"slices"
 	"testing"
 
@@ -75,6 +76,14 @@ func textOf(q api.Request) string {
 		panic("no text")
 	}
 	return text
+}
+
+func requestOf(text string) api.Request {
+	q, e := deeds.Read(text)
+	if e != api.OK {
+		panic("no request")
+	}
+	return q
 }
 
 // asker answers the signature of the request's client.
@@ -258,3 +267,7 @@ func TestNumbers(t *testing.T) {
 		t.Error(got, want)
 	}
 }
+
+var minusNought = math.Copysign(0, -1)
+
+func nanOf(bits uint64) float64 { return math.Float64frombits(bits) }

@@ -65,17 +65,13 @@ func (s *step) tellAgain() {
 	s.tell(api.Msg{Kind: api.MFetch})
 }
 
+// copyMsg answers the message in memory of its own. Its links are so already: they are the chain that the tracker answered.
 func copyMsg(m api.Msg) api.Msg {
 	m.Next = slices.Clone(m.Next)
 	m.Sigs = slices.Clone(m.Sigs)
 	m.Changes = slices.Clone(m.Changes)
 	for i, x := range m.Changes {
 		m.Changes[i].Certs = copyCerts(x.Certs)
-	}
-	m.Links = slices.Clone(m.Links)
-	for i, l := range m.Links {
-		m.Links[i].Conf.Members = slices.Clone(l.Conf.Members)
-		m.Links[i].Sigs = slices.Clone(l.Sigs)
 	}
 	return m
 }
