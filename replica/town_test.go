@@ -325,3 +325,21 @@ func TestAnOrdinaryTown(t *testing.T) {
 		}
 	}
 }
+
+// With one silent member of four each request is done within 24 ticks, whoever is silent, through views and epochs.
+func TestATownWithASilentMember(t *testing.T) {
+	for silent := range 4 {
+		x := townOf(t, 1, silent, 0, 1, 2, 3)
+		for i := 1; i <= 10; i++ {
+			x.ask(put(1+i%clients, i, "k", float64(i)))
+			from := x.now
+			for x.flush(8); len(x.common()) < i; x.flush(8) {
+				x.tick()
+				if x.now > from+24 {
+					t.Fatalf("%d is silent: the request %d isn't done within 24 ticks", silent, i)
+				}
+			}
+			x.expectOne()
+		}
+	}
+}
