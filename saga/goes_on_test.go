@@ -66,6 +66,36 @@ func TestItGoesOnWithNobodyBad(t *testing.T) {
 	}
 }
 
+// All clients ask at once, which takes two epochs: four are answered at once, and the others, who learn of the second epoch behind four ticks, when they ask again behind that.
+func TestItGoesOnWhereAllAskAtOnce(t *testing.T) {
+	for n := 4; n <= 10; n++ {
+		w := townOf(t, int64(n), firstOf(n), n, clients)
+		for i := range 5 {
+			for client := 1; client <= clients; client++ {
+				w.must(ask(client, add("k", anyReal(w.Rand))))
+			}
+			w.must(flush(8))
+			if got := w.accepted(); got < clients*i+interval {
+				t.Error(n, i, "at once only", got)
+			}
+			w.rounds(8)
+			s := w.expectWhole()
+			if got := w.accepted(); got != clients*(i+1) || s.Len() != got {
+				t.Error(n, i, got, s.Len())
+			}
+		}
+	}
+}
+
+// accepted answers how many requests are accepted in all.
+func (w *town) accepted() int {
+	n := 0
+	for _, id := range w.w.Clients() {
+		n += len(w.w.Client(id).Accepted())
+	}
+	return n
+}
+
 // With one silent member of four, whoever that is, each request is accepted within 24 ticks: be it that it is bad and says nothing, or that it isn't there.
 func TestItGoesOnWithOneSilent(t *testing.T) {
 	towns := []*town{townOf(t, 9, firstOf(4), 3, 3)} // 3 isn't there
